@@ -1,0 +1,1 @@
+"""Idlewrites: programs as data, and which lots of their writes can be struck."""
