@@ -71,6 +71,7 @@ def ascending_places(things):
     if not is_list(things):
         raise BadLot(0)
     places = [as_place(thing) for thing in things]
-    if None in places:
-        raise BadLot(places.index(None))
+    for index, place in enumerate(places):
+        if place is None:
+            raise BadLot(index)
     return tuple(sorted(set(places)))

@@ -11,6 +11,8 @@ import pathlib
 import re
 import tokenize
 
+from tests.operators import modified, operator_faults
+
 PACKAGE = "idlewrites"
 
 ERRORS = set(
@@ -56,7 +58,6 @@ BARRED_PARTS = ("dataclass", "overload", "contextmanager", "_wall", "_WallAttr")
 BARRED_STARTS = ("_wall", "_pe_", "_dcw_", "_enum_", "_cm_", "_twin_re_", "_lay_", "_law_", "_stub_", "_sre", "_WallAttr")
 BARRED_STEMS = ("_cold", "_tuplegetter", "_outside", "_record", "_written_out", "_member_names")
 BARRED_FILES = set("test tests testing site conftest sitecustomize usercustomize".split())
-MODIFIERS = set("append clear extend insert pop remove reverse setdefault update sort add discard".split())
 ONCE = set("zip enumerate reversed range items keys values map".split())
 TAKERS = set("list tuple dict sorted sum any all enumerate zip bytes min max len".split())
 STATEMENTS = (
@@ -82,9 +83,9 @@ def faults_of(source, methods=()):
     checks = (
         sizes, characters, words, imports, module_level, functions, classes, statements, expressions, literal_strings,
         names, bindings, attributes, errors, calls, iterated_at_once, stored_sets, loops,
-        pure_operators,
     )
-    return sorted(set(fault for check in checks for fault in check(tree, source)), key=str)
+    faults = [fault for check in checks for fault in check(tree, source)]
+    return sorted(set(faults), key=str)
 
 
 def faults_in(folder):
@@ -109,7 +110,7 @@ def faults_in(folder):
         trees[path.stem] = ast.parse(source)
     if "__init__" not in trees or len(trees) > 100:
         faults.append(("", "L14", 0, "files of the package"))
-    return faults + between_files(trees)
+    return faults + between_files(trees) + operator_faults(trees)
 
 
 def between_files(trees):
@@ -516,16 +517,6 @@ def stored_sets(tree, source):
             yield ("L24", node.lineno, "set")
 
 
-def modified(node):
-    """What a statement or a call modifies, as it is written."""
-    if isinstance(node, ast.Call) and isinstance(node.func, ast.Attribute) and node.func.attr in MODIFIERS:
-        yield ast.unparse(node.func.value)
-    if isinstance(node, ast.Subscript) and not isinstance(node.ctx, ast.Load):
-        yield ast.unparse(node.value)
-    if isinstance(node, ast.AugAssign):
-        yield ast.unparse(node.target)
-
-
 def loops(tree, source):
     """What a loop iterates over is not modified in it."""
     for node in ast.walk(tree):
@@ -542,25 +533,3 @@ def loops(tree, source):
                 for what in modified(inner):
                     if what in over:
                         yield ("L23", inner.lineno, f"{what} is modified")
-
-
-def pure_operators(tree, source):
-    """Operators, and functions that they may call, modify only local lists and dicts of their own."""
-    if not any(is_method(node) and node.name.startswith("__") for node in ast.walk(tree)):
-        return
-    for node in ast.walk(tree):
-        if not isinstance(node, ast.FunctionDef) or node.name in ("__init__", "__setitem__", "__call__"):
-            continue
-        made = set()
-        for inner in ast.walk(node):
-            if isinstance(inner, ast.Assign):
-                value = inner.value
-                literal = isinstance(value, (ast.List, ast.Dict, ast.ListComp))
-                if literal or called(value) in ("list", "dict", "sorted") or isinstance(value, ast.Constant):
-                    made.update(ast.unparse(target) for target in inner.targets)
-        for inner in ast.walk(node):
-            if isinstance(inner, ast.Attribute) and not isinstance(inner.ctx, ast.Load):
-                yield ("L5", inner.lineno, "attribute in a file with operators")
-            for what in modified(inner):
-                if what not in made:
-                    yield ("L5", inner.lineno, f"{what} is modified in a file with operators")

@@ -5,6 +5,7 @@ import pathlib
 import tempfile
 import unittest
 
+from tests.operators import operator_faults
 from tests.rules import between_files, faults_in, faults_of
 
 PACKAGE = pathlib.Path(__file__).resolve().parent.parent / "idlewrites"
@@ -33,8 +34,6 @@ BROKEN = [
     ("L5", "class A:\n    def __lt__(self, other):\n        return True\n"),
     ("L5", "class A:\n    xs = []\n"),
     ("L5", "def f(x):\n    return x.__dict__\n"),
-    ("L5", "class A:\n    def __len__(self):\n        return self.told([])\n\n    def told(self, xs):\n        xs.append(1)\n"),
-    ("L5", "class A:\n    def __neg__(self):\n        self.x = 1\n"),
     ("L6", "def f():\n    global x\n"),
     ("L6", "async def f():\n    pass\n"),
     ("L6", "def f(x):\n    x == 1\n"),
@@ -88,6 +87,46 @@ BROKEN = [
     ("L27", "def f():\n    return \"__odd__\"\n"),
     ("L28", "class A:\n    def __init__(self):\n        return None\n\n    def __len__(self):\n        return self.n\n"),
 ]
+
+# Each of these breaks L5 Operators in what an operator reaches, if its attribute is stored in the other file.
+IMPURE = [
+    "class A:\n    def __len__(self):\n        return self.told([])\n\n    def told(self, xs):\n        xs.append(1)\n",
+    "class A:\n    def __neg__(self):\n        self.x = 1\n",
+    "class A:\n    def __neg__(self):\n        return f(self)\n\n\ndef f(a):\n    a.x = 1\n",
+    "class A:\n    def __or__(self, other):\n        return self.rows.index(other)\n",
+    "class A:\n    def __or__(self, other):\n        return A([])\n\n    def __init__(self, xs):\n        f(xs)\n\n\n"
+    "def f(xs):\n    return xs.index(1)\n",
+    "class A:\n    def __neg__(self):\n        return f(self, len)\n\n\ndef f(a, g):\n    return g(a)\n",
+    "class A:\n    def __neg__(self):\n        return self.rows[0]()\n",
+    "class A:\n    def __neg__(self):\n        xs = self.rows\n        xs.append(1)\n",
+    "class A:\n    def __neg__(self):\n        xs = {x: x for x in self.rows}\n        xs[1] = 1\n",
+    "class A:\n    def __neg__(self):\n        xs = []\n        xs = self.rows\n        xs[1] = 1\n",
+    "class A:\n    @property\n    def many(self):\n        self.rows.clear()\n",
+]
+
+PURE = '''
+class A:
+    def __init__(self, rows):
+        self.rows = list(rows)
+
+    def __or__(self, other):
+        return A(joined(self.rows, other.rows))
+
+    def tell(self):
+        self.rows.append(self.rows.index(1))
+
+
+def joined(rows, others):
+    found = []
+    for row in rows:
+        found.append(row)
+    found.extend(others)
+    return found
+
+
+def more(rows):
+    rows.append(1)
+'''
 
 RIGHT = '''"""A file that keeps the rules."""
 
@@ -146,6 +185,18 @@ class Rules(unittest.TestCase):
             "three": ast.parse("from idlewrites.two import X\n"),
         }
         self.assertEqual(between_files(handed_on), [("three", "L16", 1, "X is not defined there")])
+
+    def test_what_operators_reach(self):
+        other = ast.parse("class Bad:\n    def __init__(self, index):\n        self.index = index\n")
+        for source in IMPURE:
+            with self.subTest(source=source):
+                faults = operator_faults({"one": ast.parse(source), "two": other})
+                self.assertEqual([fault[:2] for fault in faults], [("one", "L5")])
+        self.assertEqual(operator_faults({"one": ast.parse(PURE), "two": other}), [])
+        apart = "from idlewrites.one import f\n\n\nclass A:\n    def __neg__(self):\n        return f(self.rows)\n"
+        for body, many in (("    xs.append(1)\n", 1), ("    return xs.index(1)\n", 1), ("    return xs.count(1)\n", 0)):
+            trees = {"one": ast.parse("def f(xs):\n" + body), "two": ast.parse(apart), "three": other}
+            self.assertEqual([fault[0] for fault in operator_faults(trees)], ["one"] * many)
 
     def test_files_of_the_package(self):
         with tempfile.TemporaryDirectory() as folder:
