@@ -224,28 +224,35 @@ def import_faults(node):
             yield ("L2", node.lineno, module)
 
 
-def is_plain(node):
-    """A plain value at module level; names may be those of functions."""
+def is_plain(node, functions=()):
+    """A plain value at module level; names may be those of functions, inside a list, tuple or dict."""
     if isinstance(node, ast.Constant):
         return node.value is None or isinstance(node.value, (int, str, bytes))
     if isinstance(node, ast.UnaryOp):
         return isinstance(node.op, ast.USub) and is_plain(node.operand)
     if isinstance(node, (ast.Tuple, ast.List)):
-        return all(is_plain(item) or isinstance(item, ast.Name) for item in node.elts)
+        return all(is_plain(item, functions) or is_function(item, functions) for item in node.elts)
     if isinstance(node, ast.Dict):
         return all(key and is_plain(key) for key in node.keys) and all(
-            is_plain(item) or isinstance(item, ast.Name) for item in node.values
+            is_plain(item, functions) or is_function(item, functions) for item in node.values
         )
     return False
 
 
+def is_function(node, functions):
+    return isinstance(node, ast.Name) and node.id in functions
+
+
 def module_level(tree, source):
+    above = set()
     for node in tree.body:
+        if isinstance(node, ast.FunctionDef):
+            above.add(node.name)
         if isinstance(node, ast.Expr):
             if not (isinstance(node.value, ast.Constant) and is_docstring(node.value)):
                 yield ("L3", node.lineno, "code at module level")
         elif isinstance(node, ast.Assign):
-            if len(node.targets) != 1 or not isinstance(node.targets[0], ast.Name) or not is_plain(node.value):
+            if len(node.targets) != 1 or not isinstance(node.targets[0], ast.Name) or not is_plain(node.value, above):
                 yield ("L3", node.lineno, "no plain value")
             for inner in ast.walk(node.value):
                 if inner is not node.value and isinstance(inner, (ast.List, ast.Dict)):

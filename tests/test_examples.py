@@ -1,8 +1,11 @@
-"""[46] to [48]: the examples of the document, as far as they show texts, writes and struck programs."""
+"""[46] to [48]: the examples of the document, as far as their functions have landed."""
 
 import unittest
 
+from idlewrites.judging import alike, good_meetings, parting
 from idlewrites.lots import Lot
+from idlewrites.meetings import Meeting, meetings
+from idlewrites.playing import play
 from idlewrites.programs import Program
 
 P_TEXT = """\
@@ -40,6 +43,45 @@ class Examples(unittest.TestCase):
         self.assertEqual(struck, Program.read(Q_TEXT))
         self.assertEqual(struck.writes(), [(0, 1)])
         self.assertEqual(program.text(), P_TEXT)
+
+    def test_the_parting_of_the_first_example(self):
+        p = Program.read(P_TEXT)
+        q = p - Lot([(0, 0)])
+        run = parting(p, q)
+        self.assertEqual(run.meeting.code, (0, 1))
+        self.assertEqual(run.numbers, (3, 4))
+        self.assertEqual(run.answers, ())
+        self.assertEqual([talk.told for talk in run.talks], [(1,), (3,)])
+        self.assertEqual([talk.way for talk in run.talks], [("end",), ("end",)])
+        self.assertEqual([talk.left for talk in run.talks], [(1, 2), (3, 2)])
+        self.assertEqual([meeting.code for meeting in good_meetings(p, q)], [(0, 0)])
+        self.assertIs(alike(p, q), False)
+        self.assertIs(alike(p, q, [("always", "a", "b")]), True)
+        self.assertIs(alike(p, q, [("never", "a", "b")]), False)
+        for program in (p, q):
+            talk = play(program, Meeting([["a", "b"]]), [7], [])
+            self.assertEqual((talk.told, talk.way, talk.left, talk.used), ((2,), ("end",), (2,), 0))
+
+    def test_free_lots_of_the_first_example(self):
+        p = Program.read(P_TEXT)
+        lots = [[], [(0, 0)], [(0, 1)], [(0, 0), (0, 1)]]
+        for promise, free in (("always", [True, True, False, False]), ("never", [True, False, False, False])):
+            self.assertEqual([alike(p, p - lot, [(promise, "a", "b")]) for lot in lots], free)
+
+    def test_the_equal_puts_alone_and_together(self):
+        r = Program([("main", ["a"], [], [("put", "a", 1), ("put", "a", 1)])])
+        self.assertIs(alike(r, r - [(0, 0)]), True)
+        self.assertIs(alike(r, r - [(0, 1)]), True)
+        self.assertIs(alike(r, r - [(0, 0), (0, 1)]), False)
+
+    def test_turns_alone_and_together(self):
+        program = Program.read(TURN_TEXT)
+        self.assertEqual(good_meetings(program, program - program.writes()), meetings(["a", "b"]))
+        for place in program.writes():
+            self.assertIs(alike(program, program - [place]), False)
+        for numbers in ((3, 4), (0, -1)):
+            talk = play(program, Meeting([["a"], ["b"]]), numbers, ())
+            self.assertEqual((talk.told, talk.way, talk.left), ((), ("end",), numbers))
 
     def test_two_equal_puts(self):
         program = Program([("main", ["a"], [], [("put", "a", 1), ("put", "a", 1)])])

@@ -5,8 +5,9 @@ import inspect
 import pathlib
 import unittest
 
-from idlewrites import errors, lots, programs
+from idlewrites import errors, judging, lots, meetings, playing, programs
 from idlewrites.lots import Lot
+from idlewrites.meetings import Meeting
 from idlewrites.programs import Program
 
 PACKAGE = pathlib.Path(__file__).resolve().parent.parent / "idlewrites"
@@ -25,6 +26,22 @@ METHODS = {
         "__getitem__": ["self", "at"],
         "__eq__": ["self", "other"],
     },
+    ("meetings", "Meeting"): {
+        "__init__": ["self", "blocks"],
+        "one": ["self", "name", "other"],
+        "__and__": ["self", "other"],
+        "__or__": ["self", "other"],
+        "__le__": ["self", "other"],
+        "__lt__": ["self", "other"],
+        "__ge__": ["self", "other"],
+        "__gt__": ["self", "other"],
+        "__eq__": ["self", "other"],
+        "__len__": ["self"],
+    },
+    ("playing", "Talk"): {
+        "__eq__": ["self", "other"],
+    },
+    ("judging", "Parting"): {},
     ("lots", "Lot"): {
         "__init__": ["self", "places"],
         "__or__": ["self", "other"],
@@ -41,8 +58,44 @@ METHODS = {
     },
 }
 
+# The functions of each file, with their arguments; those behind the bar may be left out.
+FUNCTIONS = {
+    ("meetings", "meetings"): "names",
+    ("playing", "play"): "program meeting numbers answers",
+    ("playing", "deeds"): "program meeting numbers answers",
+    ("judging", "alike"): "one other | promises",
+    ("judging", "good_meetings"): "one other",
+    ("judging", "parting"): "one other | promises",
+}
+
+ATTRIBUTES = {
+    "Meeting": "names blocks code",
+    "Talk": "told way left used",
+    "Parting": "meeting numbers answers talks",
+    "Lot": "places",
+}
+
 
 class Interface(unittest.TestCase):
+    def test_functions_stand_in_their_files(self):
+        for (file, name), wanted in FUNCTIONS.items():
+            with self.subTest(name):
+                tree = ast.parse((PACKAGE / f"{file}.py").read_text(encoding="utf-8"))
+                (found,) = [node for node in tree.body if isinstance(node, ast.FunctionDef) and node.name == name]
+                needed, _, optional = wanted.partition(" | ")
+                self.assertEqual([one.arg for one in found.args.args], [*needed.split(), *optional.split()])
+                self.assertEqual([ast.unparse(value) for value in found.args.defaults], ["()"] * len(optional.split()))
+                function = getattr({"meetings": meetings, "playing": playing, "judging": judging}[file], name)
+                self.assertEqual(function.__module__, f"idlewrites.{file}")
+        self.assertTrue(inspect.isgeneratorfunction(playing.deeds))
+
+    def test_attributes_are_set_on_each_object(self):
+        program = Program([("main", ["a"], [], [("put", "a", 1)])])
+        run = judging.parting(program, program - [(0, 0)])
+        for thing in (run, run.meeting, *run.talks, Meeting([]), Lot([])):
+            for name in ATTRIBUTES[thing.__class__.__name__].split():
+                self.assertIn(name, vars(thing))
+
     def test_methods_stand_in_the_body_of_their_class(self):
         for (file, word), methods in METHODS.items():
             tree = ast.parse((PACKAGE / f"{file}.py").read_text(encoding="utf-8"))
@@ -55,6 +108,9 @@ class Interface(unittest.TestCase):
     def test_classes_belong_to_their_modules(self):
         self.assertEqual(programs.Program.__module__, "idlewrites.programs")
         self.assertEqual(lots.Lot.__module__, "idlewrites.lots")
+        self.assertEqual(meetings.Meeting.__module__, "idlewrites.meetings")
+        self.assertEqual(playing.Talk.__module__, "idlewrites.playing")
+        self.assertEqual(judging.Parting.__module__, "idlewrites.judging")
         self.assertEqual(errors.IdleError.__module__, "idlewrites.errors")
 
     def test_read_is_a_class_method(self):
@@ -68,6 +124,9 @@ class Interface(unittest.TestCase):
         lot = Lot(places=[(0, 0)])
         self.assertEqual(lot, Lot([(0, 0)]))
         self.assertEqual(program.struck(lot=lot), program.struck(lot))
+        meeting = Meeting(blocks=[["a"], ["b"]])
+        self.assertEqual(meetings.meetings(names=["a", "b"])[1], meeting)
+        self.assertIs(meeting.one(other="a", name="b"), False)
 
 
 if __name__ == "__main__":

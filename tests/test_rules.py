@@ -23,6 +23,9 @@ BROKEN = [
     ("L3", "X, Y = 1, 2\n"),
     ("L3", "X = len([])\n"),
     ("L3", "X = [k for k in (1, 2)]\n"),
+    ("L3", "X = 1\nY = (X, 2)\n"),
+    ("L3", "from idlewrites.rows import EMPTY\nX = {\"a\": (EMPTY,)}\n"),
+    ("L3", "X = (f,)\n\n\ndef f():\n    pass\n"),
     ("L3", "for x in (1, 2):\n    pass\n"),
     ("L3", "print(1)\n"),
     ("L4", "@wrapped\ndef f():\n    pass\n"),
@@ -135,6 +138,14 @@ from idlewrites.kinds import is_list
 
 LIMIT = 7
 TABLE = {"a": (1, 2), "b": ()}
+
+
+def first(rows):
+    """Tell the first row."""
+    return rows[0]
+
+
+FIRSTS = (first, 1)
 
 
 class Box:
