@@ -19,14 +19,9 @@ def is_promise(names, thing):
     if not is_list(thing) or len(thing) != 3:
         return False
     word, name, other = thing
-    if not isinstance(word, str) or word not in ("always", "never"):
+    if word not in ("always", "never") or name not in names or other not in names:
         return False
-    return is_one_of(names, name) and is_one_of(names, other) and name < other
-
-
-def is_one_of(names, thing):
-    """Tell whether a thing is one of the names."""
-    return isinstance(thing, str) and thing in names
+    return name < other
 
 
 def keeps(meeting, promise):

@@ -82,8 +82,8 @@ class Program:
 
 def deeds_by_place(parts):
     """Return the deeds at all depths by their places, ascending."""
-    deeds = {}
+    found = {}
     for place, part in numbered((), parts):
         for here, deed in placed_deeds(place, part[3]):
-            deeds[here] = deed
-    return deeds
+            found[here] = deed
+    return found

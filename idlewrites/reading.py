@@ -28,13 +28,13 @@ def parts_of(text):
 
 def read_list(lines, start, margin):
     """Read deeds from a line on, as long as deeds with this margin begin there."""
-    deeds = []
+    found = []
     at = start
     while True:
         deed, behind = read_deed(lines, at, margin)
         if deed is None:
-            return deeds, at
-        deeds.append(deed)
+            return found, at
+        found.append(deed)
         at = behind
 
 

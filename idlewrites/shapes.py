@@ -54,20 +54,20 @@ def numbered(place, things):
     return [(place + (index,), thing) for index, thing in enumerate(things)]
 
 
-def placed_deeds(place, deeds):
+def placed_deeds(place, body):
     """Return the pairs (place, deed) of a list at a place, and of all lists in it, ascending."""
     pairs = []
-    for here, deed in numbered(place, deeds):
+    for here, deed in numbered(place, body):
         pairs.append((here, deed))
         for there, inner in numbered(here, lists_of(deed)):
             pairs.extend(placed_deeds(there, inner))
     return pairs
 
 
-def struck_deeds(place, deeds, chosen):
+def struck_deeds(place, body, chosen):
     """Return a list at a place as a tuple in which the writes at the chosen places are struck."""
     struck = []
-    for here, deed in numbered(place, deeds):
+    for here, deed in numbered(place, body):
         if here in chosen:
             struck.append(STRUCK[deed[0]])
         else:

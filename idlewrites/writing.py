@@ -17,10 +17,10 @@ def text_of(parts):
     return "\n".join(lines)
 
 
-def lines_of_list(deeds, margin):
+def lines_of_list(body, margin):
     """Return the lines of a list of deeds, each with a margin in front."""
     lines = []
-    for deed in deeds:
+    for deed in body:
         lines.extend(lines_of_deed(deed, margin))
     return lines
 

@@ -5,6 +5,12 @@ import random
 NAMES = ("a", "b", "c")
 FAULTS = ("oops", "a")
 
+# Names, parts and faults that are spelled like words of deeds and ways.
+SPELLED = {
+    "a": "skip", "b": "rest", "c": "put", "d": "on", "t": "leave", "u": "fault", "oops": "stop", "turn": "call",
+    "main": "if", "x": "try", "y": "last", "z": "ask",
+}
+
 
 def judged_parts(chance, most_parts=3, room=14, handed=3, deepest=4):
     """The parts of some program with few names and many writes, tells and ways out."""
@@ -94,6 +100,30 @@ def changed_deed(deed, names, chance, share):
     return tuple(changed_list(item, names, chance, share) if at in lists else item for at, item in enumerate(deed))
 
 
+def respelled(parts):
+    """The same parts with names that are spelled like words of deeds."""
+    return tuple(
+        (SPELLED[name], named(handed), named(own), tuple(respelled_deed(deed) for deed in body))
+        for name, handed, own, body in parts
+    )
+
+
+def respelled_deed(deed):
+    items = [deed[0]]
+    for item in deed[1:]:
+        if isinstance(item, str):
+            items.append(SPELLED[item])
+        elif isinstance(item, tuple):
+            items.append(tuple(SPELLED[one] if isinstance(one, str) else respelled_deed(one) for one in item))
+        else:
+            items.append(item)
+    return tuple(items)
+
+
+def named(names):
+    return tuple(SPELLED[name] for name in names)
+
+
 def some_promises(chance, names):
     """A list of promises about some names."""
     pairs = [(name, other) for name in sorted(names) for other in sorted(names) if name < other]
@@ -106,4 +136,6 @@ def some_pairs(count, seed, **sizes):
     for number in range(count):
         chance = random.Random(seed * 1000003 + number)
         parts = judged_parts(chance, **sizes)
+        if number % 3 == 0:
+            parts = respelled(parts)
         yield parts, mate_of(parts, chance, chance.choice((0.1, 0.25, 0.5))), some_promises(chance, parts[-1][1])

@@ -194,7 +194,10 @@ class Orders(unittest.TestCase):
     def test_other_objects_are_not_joined(self):
         meeting = Meeting([["a"]])
         for thing in (None, 1, [["a"]], (("a",),)):
-            for call in (lambda: meeting | thing, lambda: meeting & thing, lambda: meeting <= thing, lambda: meeting < thing):
+            for call in (
+                lambda: meeting | thing, lambda: meeting & thing, lambda: meeting <= thing, lambda: meeting < thing,
+                lambda: meeting >= thing, lambda: meeting > thing,
+            ):
                 with self.assertRaises(TypeError):
                     call()
 
