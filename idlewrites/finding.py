@@ -2,7 +2,6 @@
 
 from idlewrites.meetings import marks_of
 from idlewrites.playing import cells_of, run_from
-from idlewrites.routes import TAKES
 from idlewrites.rows import digits_of
 
 
@@ -35,9 +34,8 @@ def run_along(program, meeting, row, greatest):
     run = run_from(program, meeting, cells_of(program, meeting, numbers), ())
     answers = []
     for digit in digits_of(row):
-        while run.goes_on():
-            run.step()
-        if TAKES[program[run.stands_at()][0]] == "truth":
+        run.go()
+        if run.stands_at().takes == "truth":
             answers.append(digit == "1")
         else:
             answers.append(next_one)

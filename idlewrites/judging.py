@@ -53,4 +53,4 @@ def parting(one, other, promises=()):
 
 def tracer_of(one, other):
     """Return a tracer that asks where two programs of the same bones tell or leave unlike contents."""
-    return Tracer(Skeleton(one.parts()), Pair(one, other))
+    return Tracer(Skeleton(one), Pair(one, other))

@@ -23,8 +23,7 @@ def play(program, meeting, numbers, answers):
     """Play a run and return its Talk; raise UnlikeNames, BadNumbers or BadAnswer."""
     cells = cells_of(program, meeting, numbers)
     run = run_from(program, meeting, cells, answers)
-    while run.goes_on():
-        run.step()
+    run.go()
     if run.waits:
         return Talk(tuple(run.told), None, None, run.used)
     way = run.way if run.way[0] == "fault" else ("end",)
@@ -35,7 +34,7 @@ def deeds(program, meeting, numbers, answers):
     """Yield the place of each deed of a run when it is begun; raise the errors of play."""
     run = run_from(program, meeting, cells_of(program, meeting, numbers), answers)
     while run.goes_on():
-        yield run.stands_at()
+        yield run.stands_at().place
         run.step()
 
 

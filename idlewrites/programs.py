@@ -5,7 +5,8 @@ from idlewrites.errors import NoPlace, NoWrite
 from idlewrites.kinds import as_place, is_list
 from idlewrites.lots import Lot
 from idlewrites.reading import parts_of
-from idlewrites.shapes import STRUCK, numbered, placed_deeds, struck_deeds
+from idlewrites.routes import Routes
+from idlewrites.shapes import STRUCK, deeds_by_place, numbered, struck_deeds
 from idlewrites.writing import text_of
 
 
@@ -15,6 +16,7 @@ class Program:
     def __init__(self, parts):
         self._parts = checked_parts(parts)
         self._deeds = deeds_by_place(self._parts)
+        self._routes = Routes(self._parts, self._deeds)
 
     @classmethod
     def read(cls, text):
@@ -32,6 +34,10 @@ class Program:
     def handed(self):
         """Return the handed names of main."""
         return self._parts[-1][1]
+
+    def routes(self):
+        """Return where the runs of the program go."""
+        return self._routes
 
     def struck(self, lot):
         """Return the program in which all writes of a lot are struck; raise NoWrite."""
@@ -78,12 +84,3 @@ class Program:
                 raise NoWrite(thing)
             chosen[place] = True
         return chosen
-
-
-def deeds_by_place(parts):
-    """Return the deeds at all depths by their places, ascending."""
-    found = {}
-    for place, part in numbered((), parts):
-        for here, deed in placed_deeds(place, part[3]):
-            found[here] = deed
-    return found

@@ -1,11 +1,4 @@
-"""Where the runs of a program go from deed to deed, whatever the contents of their cells are.
-
-A point is a pair (place, ways): the place of the deed that is done next, and the ways that wait, the
-outermost first: each is the way of the BODY of a last in whose THEN that deed stands. When the body
-of a part is done, place is that of the part, and ways has one item, the way of the body.
-"""
-
-from idlewrites.programs import deeds_by_place
+"""Where the runs of a program go from deed to deed, whatever the contents of their cells are."""
 
 ON = ("on",)
 LEAVE = ("leave",)
@@ -15,70 +8,91 @@ STOP = ("stop",)
 TAKES = {"ask": "integer", "skip": "integer", "if": "truth", "loop": "truth"}
 
 
+class Point:
+    """Where a run stands in a part: the place of the deed that is done next, and this deed.
+
+    `takes` is the kind of answer that the deed takes, or None. `ways` are the ways that wait, the
+    outermost first: each is the way of the BODY of a last in whose THEN the deed stands. When the
+    body of the part is done, `place` is that of the part, `deed` is None, and `ways` has one item,
+    the way of the body.
+    """
+
+    def __init__(self, place, ways, deed):
+        self.place = place
+        self.ways = ways
+        self.deed = deed
+        self.takes = None if deed is None else TAKES.get(deed[0])
+        # The points behind it that have been asked for: by the answer True, or by the way of a called part.
+        self.behind = {}
+
+
 class Routes:
-    """Where the runs of a program go; the deed at a place is found without a check."""
+    """Where the runs of a program go.
 
-    def __init__(self, parts):
-        self._deeds = deeds_by_place(parts)
-        self._known = {}
+    There is one Point for each place and ways. Points are made when they are asked for, and kept: many
+    runs of one program go the same ways.
+    """
 
-    def deed(self, place):
-        """Return the deed at a place."""
-        return self._deeds[place]
+    def __init__(self, parts, deeds):
+        self.indexes = {part[0]: index for index, part in enumerate(parts)}
+        self._deeds = deeds
+        self._starts = {}
+        self._points = {}
 
     def start(self, index):
         """Return the first point of the part with this index."""
-        return self._first((index,), ())
+        if index not in self._starts:
+            self._starts[index] = self._first((index,), ())
+        return self._starts[index]
 
     def onward(self, point, answer):
         """Return the point behind a deed that takes this answer, if any; the deed is no call."""
-        place, ways = point
-        # True and 1 are one key.
-        key = (place, ways, answer is True)
-        if key not in self._known:
-            self._known[key] = self._behind_deed(point, answer)
-        return self._known[key]
+        truth = answer is True
+        if truth not in point.behind:
+            point.behind[truth] = self._behind_deed(point, truth)
+        return point.behind[truth]
 
     def behind_call(self, point, way):
         """Return the point behind a call when the body of the called part goes out by this way."""
-        return self._behind(point, ON if way == LEAVE else way)
+        if way not in point.behind:
+            point.behind[way] = self._behind(point.place, point.ways, ON if way == LEAVE else way)
+        return point.behind[way]
 
-    def _behind_deed(self, point, answer):
+    def _behind_deed(self, point, truth):
         """Do as onward, but find the point anew."""
-        place, ways = point
-        deed = self._deeds[place]
-        word = deed[0]
+        place = point.place
+        word = point.deed[0]
         if word == "if":
-            return self._first(place + (0 if answer else 1,), ways)
-        if word in ("try", "last") or word == "loop" and answer:
-            return self._first(place + (0,), ways)
+            return self._first(place + (0 if truth else 1,), point.ways)
+        if word in ("try", "last") or word == "loop" and truth:
+            return self._first(place + (0,), point.ways)
+        way = ON
         if word == "fail":
-            return self._behind(point, ("fault", deed[1]))
-        if word == "leave":
-            return self._behind(point, LEAVE)
-        if word == "stop":
-            return self._behind(point, STOP)
-        return self._behind(point, ON)
+            way = ("fault", point.deed[1])
+        elif word == "leave":
+            way = LEAVE
+        elif word == "stop":
+            way = STOP
+        return self._behind(place, point.ways, way)
 
     def _first(self, place, ways):
         """Return the point of the first deed of the list at a place, or the one behind an empty list."""
-        return self._behind((place + (-1,), ways), ON)
+        return self._behind(place + (-1,), ways, ON)
 
-    def _behind(self, point, way):
+    def _behind(self, place, ways, way):
         """Return the point behind a deed that goes on or out by a way."""
-        place, ways = point
         while True:
             after = place[:-1] + (place[-1] + 1,)
             if way == ON and after in self._deeds:
-                return after, ways
+                return self._point(after, ways)
             home = place[:-1]
             if len(home) == 1:
-                return home, (way,)
+                return self._point(home, (way,))
             # The list with the number home[-1] of the deed at this place goes by the way.
             place = home[:-1]
             deed = self._deeds[place]
             if deed[0] == "loop" and way == ON:
-                return place, ways
+                return self._point(place, ways)
             if deed[0] == "loop" and way == STOP:
                 way = ON
             elif deed[0] == "try" and home[-1] == 0 and way == ("fault", deed[2]):
@@ -88,3 +102,10 @@ class Routes:
             elif deed[0] == "last":
                 way = ways[-1] if way == ON else way
                 ways = ways[:-1]
+
+    def _point(self, place, ways):
+        """Return the point at a place with these ways that wait."""
+        key = (place, ways)
+        if key not in self._points:
+            self._points[key] = Point(place, ways, self._deeds.get(place))
+        return self._points[key]

@@ -2,7 +2,6 @@
 
 from idlewrites.errors import BadAnswer
 from idlewrites.kinds import is_integer
-from idlewrites.routes import TAKES, Routes
 
 
 class Run:
@@ -19,38 +18,42 @@ class Run:
         self.way = None
         self._answers = list(answers)
         self._parts = program.parts()
-        self._indexes = {part[0]: index for index, part in enumerate(self._parts)}
-        self._routes = Routes(self._parts)
+        self._routes = program.routes()
         # What the callers go on with: for each of them the point of its call, and its names.
         self._callers = []
         self._point = None
         self._names = {}
         self._begin(len(self._parts) - 1, cells)
 
+    def go(self):
+        """Do deeds until the run waits or has ended; raise BadAnswer."""
+        while self.way is None and not self.waits:
+            self.step()
+
     def goes_on(self):
         """Tell whether the run neither waits nor has ended."""
         return self.way is None and not self.waits
 
     def stands_at(self):
-        """Return the place of the deed that is done next."""
-        return self._point[0]
+        """Return the point of the deed that is done next."""
+        return self._point
 
     def step(self):
         """Do the next deed, as far as there is an answer for it; raise BadAnswer."""
-        deed = self._routes.deed(self._point[0])
+        point = self._point
+        deed = point.deed
         answer = None
-        if deed[0] in TAKES:
+        if point.takes is not None:
             if self.used == len(self._answers):
                 self.waits = True
                 return
-            answer = self._taken(TAKES[deed[0]])
+            answer = self._taken(point.takes)
         if deed[0] == "call":
-            self._callers.append((self._point, self._names))
-            self._begin(self._indexes[deed[1]], [self._names[name] for name in deed[2]])
+            self._callers.append((point, self._names))
+            self._begin(self._routes.indexes[deed[1]], [self._names[name] for name in deed[2]])
         else:
             self._change(deed, answer)
-            self._point = self._routes.onward(self._point, answer)
-            self._return()
+            self._go_to(self._routes.onward(point, answer))
 
     def give(self, answer):
         """Put an answer behind all others."""
@@ -89,15 +92,13 @@ class Run:
         self._names = dict(zip(handed, cells))
         for name in own:
             self._names[name] = [0]
-        self._point = self._routes.start(index)
-        self._return()
+        self._go_to(self._routes.start(index))
 
-    def _return(self):
-        """Go back to the callers of all parts whose bodies are done."""
-        while len(self._point[0]) == 1 and self.way is None:
-            way = self._point[1][0]
-            if len(self._callers) == 0:
-                self.way = way
-            else:
-                point, self._names = self._callers.pop()
-                self._point = self._routes.behind_call(point, way)
+    def _go_to(self, point):
+        """Stand at a point, or, if the body of the part is done there, go back to the callers."""
+        while point.deed is None and len(self._callers) > 0:
+            call, self._names = self._callers.pop()
+            point = self._routes.behind_call(call, point.ways[0])
+        self._point = point
+        if point.deed is None:
+            self.way = point.ways[0]

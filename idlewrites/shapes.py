@@ -64,6 +64,15 @@ def placed_deeds(place, body):
     return pairs
 
 
+def deeds_by_place(parts):
+    """Return the deeds at all depths by their places, ascending."""
+    found = {}
+    for place, part in numbered((), parts):
+        for here, deed in placed_deeds(place, part[3]):
+            found[here] = deed
+    return found
+
+
 def struck_deeds(place, body, chosen):
     """Return a list at a place as a tuple in which the writes at the chosen places are struck."""
     struck = []

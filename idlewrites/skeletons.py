@@ -4,7 +4,7 @@ No deed looks at a content to go one way or the other, so this is the same for a
 programs of the same bones.
 """
 
-from idlewrites.routes import TAKES, Routes
+from idlewrites.routes import TAKES
 from idlewrites.rows import EMPTY, FALSE, NUMBER, TRUE
 from idlewrites.shapes import STRUCK
 
@@ -38,15 +38,14 @@ class Graph:
 
     def node(self, point, cells):
         """Return the node of a point at which the names lead to these cells."""
-        place, ways = point
         # At its end the names of a part do not count any more.
-        state = (place, ways, () if len(place) == 1 else cells)
+        state = (point, () if point.deed is None else cells)
         if state not in self._nodes:
             self._nodes[state] = len(self.states)
             self.states.append(state)
             self.into.append([])
-            if len(place) == 1:
-                self.exits[ways[0]] = self._nodes[state]
+            if point.deed is None:
+                self.exits[point.ways[0]] = self._nodes[state]
         return self._nodes[state]
 
 
@@ -59,11 +58,10 @@ class Skeleton:
     part that is called, how its handed names meet, and the cells that are handed over, each once.
     """
 
-    def __init__(self, parts):
-        self._parts = parts
-        self._routes = Routes(parts)
-        self._indexes = {part[0]: index for index, part in enumerate(parts)}
-        self._names = [name_numbers(part) for part in parts]
+    def __init__(self, program):
+        self._parts = program.parts()
+        self._routes = program.routes()
+        self._names = [name_numbers(part) for part in self._parts]
         self._graphs = {}
 
     def graph(self, index, pattern):
@@ -81,23 +79,23 @@ class Skeleton:
         graph.node(self._routes.start(index), pattern + tuple(range(many, many + new)))
         node = 0
         while node < len(graph.states):
-            place = graph.states[node][0]
-            if len(place) > 1 and self._routes.deed(place)[0] == "call":
+            deed = graph.states[node][0].deed
+            if deed is not None and deed[0] == "call":
                 self._draw_call(graph, node)
-            elif len(place) > 1:
+            elif deed is not None:
                 self._draw_steps(graph, node)
             node += 1
         return graph
 
     def _draw_steps(self, graph, node):
         """Draw the steps from a node at which the deed is no call."""
-        place, ways, cells = graph.states[node]
-        deed = self._routes.deed(place)
-        names = self._names[place[0]]
+        point, cells = graph.states[node]
+        deed = point.deed
+        names = self._names[point.place[0]]
         change = SAME
         after = cells
         if deed[0] in STRUCK or deed[0] in ("rest", "skip"):
-            change = ("written", place, cells)
+            change = ("written", point.place, cells)
         elif deed[0] in ("point", "fresh"):
             cell = ZERO if deed[0] == "fresh" else cells[names[deed[2]]]
             at = names[deed[1]]
@@ -106,19 +104,20 @@ class Skeleton:
         elif deed[0] == "tell":
             graph.tells.append((node, cells[names[deed[1]]]))
         for row, answer in rows_of(deed[0]):
-            behind = graph.node(self._routes.onward((place, ways), answer), after)
+            behind = graph.node(self._routes.onward(point, answer), after)
             graph.into[behind].append((node, row, change))
 
     def _draw_call(self, graph, node):
         """Draw the steps from a node at which the deed is a call, one for each way of the part."""
-        place, ways, cells = graph.states[node]
-        _, part, given = self._routes.deed(place)
-        names = self._names[place[0]]
+        point, cells = graph.states[node]
+        _, part, given = point.deed
+        names = self._names[point.place[0]]
         pattern, handed = renumbered([cells[names[name]] for name in given], 0)
-        call = (self._indexes[part], pattern, handed)
+        index = self._routes.indexes[part]
+        call = (index, pattern, handed)
         graph.calls.append((node, call))
-        for way in list(self.graph(self._indexes[part], pattern).exits):
-            behind = graph.node(self._routes.behind_call((place, ways), way), cells)
+        for way in list(self.graph(index, pattern).exits):
+            behind = graph.node(self._routes.behind_call(point, way), cells)
             graph.into[behind].append((node, EMPTY, ("called", call, way)))
 
 
