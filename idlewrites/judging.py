@@ -41,7 +41,12 @@ def parting(one, other, promises=()):
     """Return None if two programs are alike under promises, otherwise the least Parting."""
     check_bones(one, other)
     kept = kept_meetings(one.handed(), promises)
-    run = least_run(tracer_of(one, other), one, kept)
+    return parting_among(one, other, tracer_of(one, other), kept)
+
+
+def parting_among(one, other, tracer, kept):
+    """Return the least Parting at the kept meetings, or None; the tracer is that of the two programs."""
+    run = least_run(tracer, one, kept)
     if run is None:
         return None
     meeting, row = run

@@ -1,8 +1,7 @@
 """The question whether two programs of the same bones ever tell or leave unlike contents."""
 
-from idlewrites.shapes import STRUCK
-from idlewrites.skeletons import ZERO, name_numbers
-from idlewrites.tracing import ASKED, FOUND
+from idlewrites.effects import ASKED, Effects, is_integer_spot, source
+from idlewrites.walking import FOUND
 
 
 class Pair:
@@ -12,11 +11,10 @@ class Pair:
     """
 
     def __init__(self, one, other):
+        effects = Effects()
         self._equal = one == other
-        self._integers = {0: ZERO}
-        self._effects = {}
-        for place in sorted(set(one.writes() + other.writes())):
-            self._effects[place] = (self._effect(one, place), self._effect(other, place))
+        self._one = effects.of_writes(one)
+        self._other = effects.of_writes(other)
 
     def is_idle(self):
         """Tell whether the programs cannot differ: whether they are equal."""
@@ -28,47 +26,22 @@ class Pair:
 
     def before(self, place, cells, trace):
         """Return the trace ahead of a write, the cells being those of the part's names, or None."""
-        if place not in self._effects:
-            return trace
-        effect, mate = self._effects[place]
         spot, beside = trace
-        return self.settled((source(effect, cells, spot), source(mate, cells, beside)))
+        return compared(source(self._one.get(place), cells, spot), source(self._other.get(place), cells, beside))
 
     def settled(self, trace):
-        """Return FOUND if the two spots are known to be unlike, None if they are known to be alike."""
-        spot, beside = trace
-        # Nothing else has the number of the answer that is taken just now.
-        if ASKED not in trace and not (is_integer_spot(spot) and is_integer_spot(beside)):
-            return trace
-        return None if spot == beside else FOUND
+        """Return what a trace comes to when some of its spots are known to be no cells."""
+        return compared(*trace)
 
     def is_asked(self, trace):
         """Tell whether the contents of a trace at the beginning of main are unlike."""
         spot, beside = trace
         return spot != beside
 
-    def _effect(self, program, place):
-        """Return what a deed writes: None, or (number of a name, number of the name that is copied, spot)."""
-        deed = program[place]
-        if deed[0] not in STRUCK:
-            return None
-        names = name_numbers(program.parts()[place[0]])
-        if deed[0] == "copy":
-            return names[deed[1]], names[deed[2]], None
-        if deed[0] == "ask":
-            return names[deed[1]], None, ASKED
-        if deed[2] not in self._integers:
-            self._integers[deed[2]] = ZERO - len(self._integers)
-        return names[deed[1]], None, self._integers[deed[2]]
 
-
-def source(effect, cells, spot):
-    """Return the spot of a content ahead of what a deed writes, the cells being those of the part's names."""
-    if effect is None or cells[effect[0]] != spot:
-        return spot
-    return effect[2] if effect[1] is None else cells[effect[1]]
-
-
-def is_integer_spot(spot):
-    """Tell whether a spot is that of a written integer."""
-    return ASKED < spot < 0
+def compared(spot, beside):
+    """Return FOUND if two spots are known to be unlike, None if they are known to be alike, else their trace."""
+    # Nothing else has the number of the answer that is taken just now.
+    if spot == ASKED or beside == ASKED or is_integer_spot(spot) and is_integer_spot(beside):
+        return None if spot == beside else FOUND
+    return spot, beside

@@ -36,14 +36,14 @@ class Routes:
     def __init__(self, parts, deeds):
         self.indexes = {part[0]: index for index, part in enumerate(parts)}
         self._deeds = deeds
-        self._starts = {}
+        self._firsts = {}
         self._points = {}
 
     def start(self, index):
         """Return the first point of the part with this index."""
-        if index not in self._starts:
-            self._starts[index] = self._first((index,), ())
-        return self._starts[index]
+        if index not in self._firsts:
+            self._firsts[index] = self._first((index,), ())
+        return self._firsts[index]
 
     def onward(self, point, answer):
         """Return the point behind a deed that takes this answer, if any; the deed is no call."""

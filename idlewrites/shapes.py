@@ -73,6 +73,17 @@ def deeds_by_place(parts):
     return found
 
 
+def lists_by_place(parts):
+    """Return the lists of deeds by their places: the bodies of the parts and the lists of all deeds."""
+    found = {}
+    for place, part in numbered((), parts):
+        found[place] = part[3]
+        for here, deed in placed_deeds(place, part[3]):
+            for there, inner in numbered(here, lists_of(deed)):
+                found[there] = inner
+    return found
+
+
 def struck_deeds(place, body, chosen):
     """Return a list at a place as a tuple in which the writes at the chosen places are struck."""
     struck = []

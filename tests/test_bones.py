@@ -4,12 +4,16 @@ import itertools
 import random
 import unittest
 
+from idlewrites.choosing import bars, goes_along, greatest_lots, is_free, spared
 from idlewrites.errors import BadPromise, IdleError, UnlikeBones
 from idlewrites.judging import alike, good_meetings, parting
 from idlewrites.lots import Lot
 from idlewrites.meetings import Meeting, meetings
+from idlewrites.papers import is_paper, paper
 from idlewrites.playing import deeds, play
 from idlewrites.programs import Program
+from idlewrites.promising import breaks, least_promises
+from idlewrites.seeing import seen, unseen
 from tests.mates import judged_parts, mate_of
 from tests.samples import EVERY_DEED, OBJECTS, as_lists, lists_of, program_parts, walked
 from tests.second import slow_play
@@ -20,6 +24,24 @@ def takers(promises=()):
     return (
         lambda one, other: alike(one, other, promises),
         lambda one, other: parting(one, other, promises),
+        lambda one, other: breaks(one, other, promises),
+        lambda one, other: paper(one, other, promises),
+        lambda one, other: is_paper(one, other, {}, promises),
+        lambda one, other: is_paper(one, other, None, promises),
+    )
+
+
+def takers_of_one(promises):
+    """All functions that take one program and promises."""
+    return (
+        lambda program: is_free(program, [], promises),
+        lambda program: is_free(program, Lot(program.writes()), promises),
+        lambda program: greatest_lots(program, promises),
+        lambda program: bars(program, promises),
+        lambda program: goes_along(program, promises),
+        lambda program: spared(program, promises),
+        lambda program: seen(program, program.writes()[0], promises),
+        lambda program: unseen(program, promises),
     )
 
 
@@ -46,7 +68,7 @@ class Bones(unittest.TestCase):
     def unlike(self, one, other, place):
         """All functions that take two programs raise UnlikeBones with this place, both ways round."""
         first, second = Program(one), Program(other)
-        for function in (*takers(), *takers(["wrong"]), *takers(None), good_meetings):
+        for function in (*takers(), *takers(["wrong"]), *takers(None), good_meetings, least_promises):
             for pair in ((first, second), (second, first)):
                 with self.assertRaises(UnlikeBones) as context:
                     function(*pair)
@@ -58,6 +80,9 @@ class Bones(unittest.TestCase):
             first, second = (Program(parts) for parts in pair)
             self.assertIn(alike(first, second), (True, False))
             self.assertIs(type(good_meetings(first, second)), list)
+            self.assertIs(type(least_promises(first, second)), list)
+            self.assertEqual(breaks(first, second, []), [])
+            self.assertIn(is_paper(first, second, {}), (True, False))
             parting(first, second)
 
     def body(self, *deeds_of_main):
@@ -209,6 +234,10 @@ class Promises(unittest.TestCase):
                 self.assertEqual(context.exception.index, index)
                 self.assertIs(type(context.exception.index), int)
                 self.assertIsInstance(context.exception, IdleError)
+        for function in takers_of_one(promises):
+            with self.assertRaises(BadPromise) as context:
+                function(self.ONE)
+            self.assertEqual(context.exception.index, index)
 
     def test_no_list_of_promises(self):
         for thing in (None, True, False, 0, 1, "", "always", {}, {("always", "a", "b"): 1}, Lot([]), Meeting([])):
@@ -241,6 +270,9 @@ class Promises(unittest.TestCase):
         passed = as_lists(promises)
         parting(self.ONE, self.OTHER, promises=passed)
         self.assertEqual(passed, as_lists(promises))
+        for function in (*takers_of_one(passed), lambda program: breaks(program, program, passed)):
+            function(self.ONE)
+            self.assertEqual(passed, as_lists(promises))
         self.assertIs(alike(self.ONE, self.OTHER, []), alike(self.ONE, self.OTHER))
 
     def test_a_promise_that_no_names_can_be_in(self):
@@ -249,6 +281,9 @@ class Promises(unittest.TestCase):
             for function in takers([thing]):
                 with self.assertRaises(BadPromise):
                     function(alone, alone)
+            for function in takers_of_one([thing]):
+                with self.assertRaises(BadPromise):
+                    function(alone)
         for program in (alone, Program(EVERY_DEED)):
             self.assertIs(alike(program, program, []), True)
 
