@@ -1,24 +1,24 @@
 """Rows of answers that steer a run, and a queue in which the least row comes first.
 
-A row is an integer: a one, and behind it a binary digit for each answer, 1 for True, 0 for False and
-for an integer. So a shorter row is less than a longer one, and rows of one length are ordered by
-their first unlike answers.
+A row is a pair: the number of its answers, and a string with a digit for each of them, "1" for True, "0"
+for False and for an integer. So a shorter row is less than a longer one, and rows of one length are
+ordered by their first unlike answers.
 """
 
-EMPTY = 1
-NUMBER = 2
-FALSE = 2
-TRUE = 3
+EMPTY = (0, "")
+NUMBER = (1, "0")
+FALSE = (1, "0")
+TRUE = (1, "1")
 
 
 def joined(row, other):
     """Return the answers of a row, and behind them those of another one."""
-    return ((row - EMPTY) << (other.bit_length() - 1)) + other
+    return row[0] + other[0], row[1] + other[1]
 
 
 def digits_of(row):
-    """Return the binary digits of the answers of a row."""
-    return f"{row:b}"[1:]
+    """Return the digits of the answers of a row."""
+    return row[1]
 
 
 class Queue:

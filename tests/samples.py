@@ -72,6 +72,12 @@ ALIKE = (
     ("else", ("else",), ("part",), (("call", "part", ()), ("tell", "else"))),
 )
 
+# The example of [48]: neither of its writes can be struck alone, but both together.
+TURN = (
+    ("turn", ("p", "q", "r"), (), (("copy", "p", "q"), ("copy", "q", "r"))),
+    ("main", ("a", "b"), ("t",), tuple(("call", "turn", given) for given in (("t", "a", "b"), ("b", "t", "t")) * 2)),
+)
+
 SIX_DEEP = (
     ("main", (), (), (
         ("if", (("loop", (("try", (("last", (), (("if", (), (("loop", ()),)),)),), "w", ()),)),), ()),

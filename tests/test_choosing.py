@@ -10,16 +10,12 @@ from idlewrites.judging import alike
 from idlewrites.lots import Lot
 from idlewrites.programs import Program
 from tests.mates import judged_parts, respelled, some_promises
-from tests.samples import EVERY_DEED, EVERY_WRITE, OBJECTS, as_lists, program_parts
+from tests.samples import EVERY_DEED, EVERY_WRITE, OBJECTS, TURN, as_lists, program_parts
 from tests.second import TooLong
 from tests.tellings import changed, greatest_of, lots_of, pairs_by, slow_free, struck_parts, writes_of
 
 NEVER = ("never", "a", "b")
 ALWAYS = ("always", "a", "b")
-TURN = (
-    ("turn", ("p", "q", "r"), (), (("copy", "p", "q"), ("copy", "q", "r"))),
-    ("main", ("a", "b"), ("t",), tuple(("call", "turn", given) for given in (("t", "a", "b"), ("b", "t", "t")) * 2)),
-)
 
 
 def main_of(body, handed=("a", "b"), own=("t",)):

@@ -1,12 +1,17 @@
-"""[46] to [48]: the examples of the document, as far as their functions have landed."""
+"""[46] to [48]: the examples of the document, and those that stand in [30], [34] and [37]."""
 
 import unittest
 
+from idlewrites.choosing import bars, goes_along, greatest_lots, is_free, spared
+from idlewrites.errors import Parted
 from idlewrites.judging import alike, good_meetings, parting
 from idlewrites.lots import Lot
 from idlewrites.meetings import Meeting, meetings
+from idlewrites.papers import is_paper, paper
 from idlewrites.playing import play
 from idlewrites.programs import Program
+from idlewrites.promising import breaks, least_promises
+from idlewrites.seeing import seen, unseen
 
 P_TEXT = """\
 part main (a b) ()
@@ -82,6 +87,86 @@ class Examples(unittest.TestCase):
         for numbers in ((3, 4), (0, -1)):
             talk = play(program, Meeting([["a"], ["b"]]), numbers, ())
             self.assertEqual((talk.told, talk.way, talk.left), ((), ("end",), numbers))
+
+    def test_promises_of_the_first_example(self):
+        p = Program.read(P_TEXT)
+        q = p - Lot([(0, 0)])
+        always, never = ("always", "a", "b"), ("never", "a", "b")
+        self.assertEqual(least_promises(p, q), [(always,)])
+        (run,) = breaks(p, q, [always])
+        self.assertEqual((run.meeting.code, run.numbers, run.answers), ((0, 1), (3, 4), ()))
+        self.assertEqual(greatest_lots(p, [always]), [Lot([(0, 0)])])
+        self.assertEqual(greatest_lots(p, [never]), [Lot([])])
+        self.assertEqual(greatest_lots(p), [Lot([])])
+        self.assertEqual(spared(p, [always]), q)
+        self.assertEqual(spared(p, [never]), p)
+        self.assertIs(is_free(p, Lot([(0, 0)]), [always]), True)
+        self.assertIs(is_free(p, Lot([(0, 0)])), False)
+        self.assertIs(is_free(p, Lot([]), [never]), True)
+
+    def test_what_comes_out_of_the_first_example(self):
+        p = Program.read(P_TEXT)
+        always = ("always", "a", "b")
+        sight = seen(p, (0, 0))
+        self.assertEqual((sight.meeting.code, sight.numbers, sight.answers, sight.talk.told), ((0, 1), (3, 4), (), (1,)))
+        self.assertIsNone(seen(p, (0, 0), [always]))
+        sight = seen(p, (0, 1))
+        self.assertEqual((sight.meeting.code, sight.numbers, sight.talk.told, sight.talk.left), ((0, 0), (3,), (2,), (2,)))
+        self.assertEqual(unseen(p), [])
+        self.assertEqual(unseen(p, [always]), [(0, 0)])
+        with self.assertRaises(Parted) as context:
+            paper(p, p - [(0, 0)])
+        self.assertEqual(context.exception.parting.numbers, (3, 4))
+
+    def test_the_paper_of_the_second_example(self):
+        r = Program([("main", ["a"], [], [("put", "a", 1), ("put", "a", 1)])])
+        s = r - Lot([(0, 0)])
+        wanted = {
+            ((0,), ((0,), (0,), ((("v", 0), ("v", 0)),))): [(("on",), ((0,), (0,), ((("n", 1), ("n", 1)),)))],
+        }
+        self.assertEqual(paper(r, s), wanted)
+        self.assertIs(is_paper(r, s, wanted), True)
+        self.assertEqual(bars(r), [((0, 0), (0, 1))])
+        self.assertEqual(goes_along(r), [])
+        self.assertEqual(greatest_lots(r), [Lot([(0, 0)]), Lot([(0, 1)])])
+        self.assertEqual(spared(r), s)
+        self.assertIs(is_free(r, [(0, 0)]), True)
+        self.assertIs(is_free(r, [(0, 1)]), True)
+        self.assertIs(is_free(r, r.writes()), False)
+
+    def test_the_turns_go_along(self):
+        program = Program.read(TURN_TEXT)
+        self.assertIs(is_free(program, [(0, 0), (0, 1)]), True)
+        self.assertIs(is_free(program, [(0, 0)]), False)
+        self.assertIs(is_free(program, [(0, 1)]), False)
+        self.assertEqual(goes_along(program), [((0, 0), (0, 1))])
+        self.assertEqual(bars(program), [])
+        self.assertEqual(greatest_lots(program), [Lot([(0, 0), (0, 1)])])
+        self.assertEqual(unseen(program), [])
+        struck = spared(program)
+        self.assertEqual(struck, program - program.writes())
+        self.assertEqual(least_promises(program, struck), [()])
+        self.assertIs(is_paper(program, struck, paper(program, struck)), True)
+
+    def test_closed_neither_upwards_nor_downwards(self):
+        copies = Program([("main", ["a", "b"], [], [("copy", "a", "b"), ("copy", "a", "b"), ("tell", "a")])])
+        self.assertEqual([is_free(copies, lot) for lot in ([], [(0, 0)], [(0, 1)], [(0, 0), (0, 1)])], [True, True, True, False])
+        self.assertEqual(bars(copies), [((0, 0), (0, 1))])
+        body = [("copy", "c", "a"), ("put", "a", 1), ("copy", "a", "c")]
+        back = Program([("main", ["a"], ["c"], body)])
+        first, put, last = back.writes()
+        self.assertIs(is_free(back, [first, put, last]), True)
+        self.assertIs(is_free(back, [last]), False)
+        self.assertIs(is_free(back, [put]), True)
+        self.assertIs(is_free(back, [first]), False)
+        self.assertIs(is_free(back, [put, last]), True)
+        self.assertEqual(greatest_lots(back), [Lot([first, put, last])])
+
+    def test_a_write_that_is_seen_and_free(self):
+        program = Program([("main", ["a", "b"], [], [("copy", "a", "b"), ("tell", "a")])])
+        always = [("always", "a", "b")]
+        self.assertEqual(seen(program, (0, 0), always).meeting, Meeting([["a", "b"]]))
+        self.assertIs(is_free(program, [(0, 0)], always), True)
 
     def test_two_equal_puts(self):
         program = Program([("main", ["a"], [], [("put", "a", 1), ("put", "a", 1)])])

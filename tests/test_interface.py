@@ -5,7 +5,7 @@ import inspect
 import pathlib
 import unittest
 
-from idlewrites import errors, judging, lots, meetings, playing, programs
+from idlewrites import choosing, errors, judging, lots, meetings, papers, playing, programs, promising, seeing
 from idlewrites.lots import Lot
 from idlewrites.meetings import Meeting
 from idlewrites.programs import Program
@@ -42,6 +42,7 @@ METHODS = {
         "__eq__": ["self", "other"],
     },
     ("judging", "Parting"): {},
+    ("seeing", "Sight"): {},
     ("lots", "Lot"): {
         "__init__": ["self", "places"],
         "__or__": ["self", "other"],
@@ -66,12 +67,29 @@ FUNCTIONS = {
     ("judging", "alike"): "one other | promises",
     ("judging", "good_meetings"): "one other",
     ("judging", "parting"): "one other | promises",
+    ("choosing", "is_free"): "program lot | promises",
+    ("choosing", "greatest_lots"): "program | promises",
+    ("choosing", "bars"): "program | promises",
+    ("choosing", "goes_along"): "program | promises",
+    ("choosing", "spared"): "program | promises",
+    ("promising", "least_promises"): "one other",
+    ("promising", "breaks"): "one other promises",
+    ("seeing", "seen"): "program place | promises",
+    ("seeing", "unseen"): "program | promises",
+    ("papers", "paper"): "one other | promises",
+    ("papers", "is_paper"): "one other thing | promises",
+}
+
+MODULES = {
+    "choosing": choosing, "judging": judging, "meetings": meetings, "papers": papers, "playing": playing,
+    "promising": promising, "seeing": seeing,
 }
 
 ATTRIBUTES = {
     "Meeting": "names blocks code",
     "Talk": "told way left used",
     "Parting": "meeting numbers answers talks",
+    "Sight": "meeting numbers answers talk",
     "Lot": "places",
 }
 
@@ -85,14 +103,15 @@ class Interface(unittest.TestCase):
                 needed, _, optional = wanted.partition(" | ")
                 self.assertEqual([one.arg for one in found.args.args], [*needed.split(), *optional.split()])
                 self.assertEqual([ast.unparse(value) for value in found.args.defaults], ["()"] * len(optional.split()))
-                function = getattr({"meetings": meetings, "playing": playing, "judging": judging}[file], name)
+                function = getattr(MODULES[file], name)
                 self.assertEqual(function.__module__, f"idlewrites.{file}")
         self.assertTrue(inspect.isgeneratorfunction(playing.deeds))
 
     def test_attributes_are_set_on_each_object(self):
         program = Program([("main", ["a"], [], [("put", "a", 1)])])
         run = judging.parting(program, program - [(0, 0)])
-        for thing in (run, run.meeting, *run.talks, Meeting([]), Lot([])):
+        sight = seeing.seen(program, (0, 0))
+        for thing in (run, run.meeting, *run.talks, Meeting([]), Lot([]), sight, sight.talk):
             for name in ATTRIBUTES[thing.__class__.__name__].split():
                 self.assertIn(name, vars(thing))
 
@@ -111,6 +130,7 @@ class Interface(unittest.TestCase):
         self.assertEqual(meetings.Meeting.__module__, "idlewrites.meetings")
         self.assertEqual(playing.Talk.__module__, "idlewrites.playing")
         self.assertEqual(judging.Parting.__module__, "idlewrites.judging")
+        self.assertEqual(seeing.Sight.__module__, "idlewrites.seeing")
         self.assertEqual(errors.IdleError.__module__, "idlewrites.errors")
 
     def test_read_is_a_class_method(self):
@@ -127,6 +147,32 @@ class Interface(unittest.TestCase):
         meeting = Meeting(blocks=[["a"], ["b"]])
         self.assertEqual(meetings.meetings(names=["a", "b"])[1], meeting)
         self.assertIs(meeting.one(other="a", name="b"), False)
+
+    def test_arguments_of_functions_by_name(self):
+        program = Program([("main", ["a", "b"], [], [("put", "a", 1), ("put", "a", 1), ("put", "b", 2)])])
+        struck, promises = program - [(0, 0)], [("never", "a", "b")]
+        table = papers.paper(program, struck, promises)
+        for called, wanted in (
+            (choosing.is_free(promises=promises, lot=[(0, 0)], program=program), True),
+            (choosing.greatest_lots(promises=promises, program=program), [Lot([(0, 0)]), Lot([(0, 1)])]),
+            (choosing.bars(promises=promises, program=program), [((0, 0), (0, 1))]),
+            (choosing.goes_along(promises=promises, program=program), []),
+            (choosing.spared(promises=promises, program=program), struck),
+            (promising.least_promises(other=struck, one=program), [()]),
+            (promising.breaks(promises=promises, other=struck, one=program), [None]),
+            (seeing.seen(promises=promises, place=(0, 0), program=program), None),
+            (seeing.unseen(promises=promises, program=program), [(0, 0)]),
+            (papers.paper(promises=promises, other=struck, one=program), table),
+            (papers.is_paper(promises=promises, thing=table, other=struck, one=program), True),
+            (judging.alike(promises=promises, other=struck, one=program), True),
+            (judging.parting(promises=promises, other=struck, one=program), None),
+            (judging.good_meetings(other=struck, one=program), meetings.meetings(["a", "b"])),
+        ):
+            self.assertEqual(called, wanted)
+
+    def test_nothing_else_stands_in_the_folder(self):
+        for path in PACKAGE.rglob("*"):
+            self.assertTrue(path.suffix == ".py" or "__pycache__" in path.parts, path)
 
 
 if __name__ == "__main__":

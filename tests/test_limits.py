@@ -9,6 +9,7 @@ from idlewrites.lots import Lot
 from idlewrites.meetings import Meeting, meetings
 from idlewrites.playing import deeds, play
 from idlewrites.programs import Program
+from idlewrites.seeing import seen
 from tests.mates import judged_parts, mate_of
 from tests.samples import walked
 from tests.second import slow_play, slow_row, slow_run
@@ -169,6 +170,16 @@ class LongRows(unittest.TestCase):
         run = parting(program, program - [(5, 2)])
         self.assertEqual(run.answers, tuple(range(3, 67)))
         self.assertEqual(run.numbers, (2,))
+
+    def test_rows_of_thousands_of_answers(self):
+        parts = list(tower([("ask", "a"), ("skip",)] * 4, 4).parts())
+        parts[-1] = (*parts[-1][:3], (*parts[-1][3], ("if", [("put", "a", 1)], []), ("tell", "a")))
+        program = Program(parts)
+        run = parting(program, program - [(5, 4, 0, 0)])
+        self.assertEqual((run.numbers, run.answers), ((2,), (*range(3, 8195), True)))
+        self.assertEqual([talk.used for talk in run.talks], [8193] * 2)
+        sight = seen(program, (5, 4, 0, 0))
+        self.assertEqual((sight.numbers, sight.answers), (run.numbers, run.answers))
 
     def test_a_lock_that_opens_by_one_row(self):
         # Only one row of answers gets as far as the put.
