@@ -7,7 +7,7 @@ from idlewrites.effects import ASKED
 from idlewrites.routes import LEAVE, ON, STOP
 from idlewrites.shapes import STRUCK, lists_by_place, numbered
 from idlewrites.skeletons import ZERO, name_numbers, renumbered
-from idlewrites.standings import contents_of, count_of_values, named_back, onward, standing_of_part, tidied
+from idlewrites.standings import contents_of, count_of_values, named_back, numbered_onward, standing_of_part, tidied
 
 
 class Doing:
@@ -79,11 +79,11 @@ class Doing:
     def _listed(self, place, standing, many):
         """Return the ends to which a list inside of a deed comes."""
         outer, names, contents = standing
-        plain, olds = onward(contents, 0)
+        plain, olds = numbered_onward(contents, 0)
         new = next_value(contents, many)
         ends = []
         for way, (_, after, inside) in self.ends((place, (outer, names, plain))):
-            behind, _ = onward(named_back(inside, olds, new), many)
+            behind, _ = numbered_onward(named_back(inside, olds, new), many)
             ends.append((way, (outer, after, behind)))
         return ends
 
@@ -129,14 +129,14 @@ class Doing:
         numbers = self._names[place[0]]
         index = self._indexes[deed[1]]
         pattern, cells = renumbered([names[numbers[name]] for name in deed[2]], 0)
-        handed, olds = onward(contents_of(cells, contents), 0)
+        handed, olds = numbered_onward(contents_of(cells, contents), 0)
         new = next_value(contents, many)
         ends = []
         for way, inside in self._ends_of_call(index, standing_of_part(pattern, handed, len(self._parts[index][2]))):
             behind = list(contents)
             for number, content in enumerate(named_back(inside, olds, new)):
                 behind[2 * cells[number // 2] + number % 2] = content
-            ends.append((way, (outer, names, onward(behind, many)[0])))
+            ends.append((way, (outer, names, numbered_onward(behind, many)[0])))
         return ends
 
     def _ends_of_call(self, index, standing):
@@ -156,7 +156,7 @@ class Doing:
         word = deed[0]
         numbers = self._names[place[0]]
         if word in STRUCK or word in ("rest", "skip"):
-            return outer, names, onward(self._written(place, names, contents, many), many)[0]
+            return outer, names, numbered_onward(self._written(place, names, contents, many), many)[0]
         if word == "tell":
             cell = names[numbers[deed[1]]]
             if contents[2 * cell] != contents[2 * cell + 1]:
@@ -169,7 +169,7 @@ class Doing:
         else:
             names = names[:at] + (names[numbers[deed[2]]],) + names[at + 1:]
         outer, names, contents = tidied(outer, names, contents)
-        return outer, names, onward(contents, many)[0]
+        return outer, names, numbered_onward(contents, many)[0]
 
     def _written(self, place, names, contents, many):
         """Return the contents behind a write."""

@@ -7,7 +7,7 @@ from idlewrites.kinds import as_place, is_integer, is_list, is_name
 from idlewrites.routes import LEAVE, ON, STOP
 from idlewrites.shapes import lists_by_place
 from idlewrites.skeletons import renumbered
-from idlewrites.standings import count_of_values, onward
+from idlewrites.standings import count_of_values, numbered_onward
 
 
 class Form:
@@ -91,7 +91,7 @@ class Form:
         contents = self._read_contents(thing[2])
         if names is None or contents is None or len(contents) != 2 * len(set(outer + names)):
             return None
-        return (outer, names, contents) if onward(contents, many)[0] == contents else None
+        return (outer, names, contents) if numbered_onward(contents, many)[0] == contents else None
 
     def _read_contents(self, thing):
         """Return the contents of all cells in numbers."""

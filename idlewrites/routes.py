@@ -84,15 +84,15 @@ class Routes:
         while True:
             after = place[:-1] + (place[-1] + 1,)
             if way == ON and after in self._deeds:
-                return self._point(after, ways)
+                return self._point_at(after, ways)
             home = place[:-1]
             if len(home) == 1:
-                return self._point(home, (way,))
+                return self._point_at(home, (way,))
             # The list with the number home[-1] of the deed at this place goes by the way.
             place = home[:-1]
             deed = self._deeds[place]
             if deed[0] == "loop" and way == ON:
-                return self._point(place, ways)
+                return self._point_at(place, ways)
             if deed[0] == "loop" and way == STOP:
                 way = ON
             elif deed[0] == "try" and home[-1] == 0 and way == ("fault", deed[2]):
@@ -103,7 +103,7 @@ class Routes:
                 way = ways[-1] if way == ON else way
                 ways = ways[:-1]
 
-    def _point(self, place, ways):
+    def _point_at(self, place, ways):
         """Return the point at a place with these ways that wait."""
         key = (place, ways)
         if key not in self._points:

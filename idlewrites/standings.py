@@ -19,7 +19,7 @@ def standing_of_part(pattern, contents, own):
     Its handed names meet as in the pattern, in cells with these contents; it has so many own names.
     """
     many = len(contents) // 2
-    return pattern, pattern + tuple(range(many, many + own)), (*contents, *[ZERO] * (2 * own))
+    return pattern, pattern + tuple(range(many, many + own)), tuple(contents) + (ZERO,) * (2 * own)
 
 
 def tidied(outer, names, contents):
@@ -33,7 +33,7 @@ def contents_of(cells, contents):
     return [contents[2 * cell + side] for cell in cells for side in (0, 1)]
 
 
-def onward(contents, many):
+def numbered_onward(contents, many):
     """Return contents in which the values from many on are numbered as they come, and their old numbers."""
     numbers = {}
     for content in contents:

@@ -30,7 +30,8 @@ class Tracer(Walk):
         """Do as least_row, but find the row anew."""
         if self._question.is_idle():
             return None
-        for trace, row in self._starts(graph, self._at_ends_of_main(graph)):
+        queue = self._at_ends_of_main(graph)
+        for trace, row in self._starts(graph, queue):
             if trace == FOUND or self._question.is_asked(trace):
                 return row
         return None

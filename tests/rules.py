@@ -110,7 +110,7 @@ def faults_in(folder):
         trees[path.stem] = ast.parse(source)
     if "__init__" not in trees or len(trees) > 100:
         faults.append(("", "L14", 0, "files of the package"))
-    return faults + between_files(trees) + operator_faults(trees)
+    return faults + between_files(trees) + names_between(trees) + operator_faults(trees)
 
 
 def between_files(trees):
@@ -137,6 +137,65 @@ def between_files(trees):
         if name in seen:
             faults.append((name, "L16", 0, "imports go round"))
     return faults
+
+
+def names_between(trees):
+    """The faults of names that mean two things in the package: a generator's, a class method's, and others."""
+    functions, inside, stored = {}, {}, {}
+    for file, tree in sorted(trees.items()):
+        for node in ast.walk(tree):
+            for child in ast.iter_child_nodes(node):
+                child.parent = node
+            if isinstance(node, ast.FunctionDef):
+                functions.setdefault(node.name, []).append((file, node))
+            elif isinstance(node, ast.ClassDef):
+                for name in methods_of(node):
+                    inside.setdefault(name, []).append((file, node))
+            elif isinstance(node, ast.Attribute) and isinstance(node.ctx, ast.Store):
+                stored.setdefault(node.attr, []).append((file, node))
+    faults = []
+    for name, found in functions.items():
+        file, node = found[-1]
+        if name in inside and name in stored:
+            faults.append((file, "L18", node.lineno, f"{name} is a method and an attribute"))
+        if any(inner.decorator_list for _, inner in found) and (len(found) > 1 or name in stored or name in METHODS):
+            faults.append((file, "L5", node.lineno, f"{name} is a class method and something else"))
+        if any(is_generator(inner) for _, inner in found):
+            if len(found) > 1 or name in stored or name in METHODS:
+                faults.append((file, "L23", node.lineno, f"{name} is a generator and something else"))
+            faults.extend(generator_faults(name, trees))
+    return faults
+
+
+def is_generator(function):
+    return any(isinstance(node, (ast.Yield, ast.YieldFrom)) for node in ast.walk(function))
+
+
+def generator_faults(name, trees):
+    """The faults of the places where a generator is named: it is called, and iterated at once."""
+    for file, tree in sorted(trees.items()):
+        for node in ast.walk(tree):
+            if getattr(node, "id", getattr(node, "attr", None)) != name or isinstance(node, ast.Name) and not is_read(node):
+                continue
+            call = node.parent
+            if not isinstance(call, ast.Call) or call.func is not node:
+                yield (file, "L23", node.lineno, f"{name} is not called")
+                continue
+            if any(isinstance(inner, ast.Call) for one in call.args for inner in ast.walk(one)):
+                yield (file, "L23", node.lineno, f"{name} gets a call")
+            parent = call.parent
+            head = isinstance(parent, (ast.For, ast.comprehension)) and parent.iter is call
+            if not (head or isinstance(parent, ast.YieldFrom) or called(parent) in TAKERS - {"len"}):
+                yield (file, "L23", node.lineno, f"{name} is not iterated at once")
+
+
+def is_read(node):
+    """Whether a name is read, and means what stands at module level."""
+    around = node
+    while not isinstance(around, (ast.FunctionDef, ast.Module)):
+        around = around.parent
+    given = [one.arg for one in around.args.args] if isinstance(around, ast.FunctionDef) else []
+    return isinstance(node.ctx, ast.Load) and node.id not in given
 
 
 def methods_of(tree):

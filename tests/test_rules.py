@@ -6,7 +6,7 @@ import tempfile
 import unittest
 
 from tests.operators import operator_faults
-from tests.rules import between_files, faults_in, faults_of
+from tests.rules import between_files, faults_in, faults_of, names_between
 
 PACKAGE = pathlib.Path(__file__).resolve().parent.parent / "idlewrites"
 
@@ -196,6 +196,25 @@ class Rules(unittest.TestCase):
             "three": ast.parse("from idlewrites.two import X\n"),
         }
         self.assertEqual(between_files(handed_on), [("three", "L16", 1, "X is not defined there")])
+
+    def test_names_that_mean_two_things(self):
+        steps = "def steps(xs):\n    for x in xs:\n        yield x\n\n\n"
+        kept = ast.parse(steps + "def f(xs):\n    for x in steps(xs):\n        pass\n    return list(steps(xs))\n")
+        self.assertEqual(names_between({"one": kept}), [])
+        for rule, source in (
+            ("L18", "class A:\n    def x(self):\n        pass\n\n\nclass B:\n    def __init__(self):\n        self.x = 1\n"),
+            ("L5", "class A:\n    @classmethod\n    def x(cls):\n        pass\n\n\ndef x():\n    pass\n"),
+            ("L5", "class A:\n    @staticmethod\n    def find():\n        pass\n"),
+            ("L23", steps + "class A:\n    def steps(self):\n        pass\n"),
+            ("L23", steps + "def f(a):\n    a.steps = 1\n"),
+            ("L23", steps + "def f():\n    return steps\n"),
+            ("L23", steps + "def f(xs):\n    return steps(xs)\n"),
+            ("L23", steps + "def f(xs):\n    return len(steps(xs))\n"),
+            ("L23", steps + "def f(xs):\n    for x in steps(f(xs)):\n        pass\n"),
+            ("L23", "class A:\n    def split(self, xs):\n        yield xs\n"),
+        ):
+            with self.subTest(source=source):
+                self.assertIn(rule, [fault[1] for fault in names_between({"one": ast.parse(source)})])
 
     def test_what_operators_reach(self):
         other = ast.parse("class Bad:\n    def __init__(self, index):\n        self.index = index\n")
