@@ -24,7 +24,7 @@ class Sight:
 def seen(program, place, promises=()):
     """Return None if the number of a write never comes out, otherwise the least Sight; raise NoWrite or BadPromise."""
     write = as_place(place)
-    if write is None or write not in program.writes():
+    if write not in program.writes():
         raise NoWrite(place)
     kept = kept_meetings(program.handed(), promises)
     run = least_run(Tracer(Skeleton(program), Sighting(program, write)), program, kept)
